@@ -40,3 +40,34 @@ func TestRead(t *testing.T) {
 		}
 	}
 }
+
+// mark is a place that stands in a line as "yes" or "no".
+type mark bool
+
+func (m *mark) Word() string {
+	if *m {
+		return "yes"
+	}
+	return "no"
+}
+
+func (m *mark) Take(word string) bool {
+	*m = word == "yes"
+	return word == "yes" || word == "no"
+}
+
+// R11: what stands in a line as a word of its own is written, and read back.
+func TestWords(t *testing.T) {
+	n, yes, no := 7, mark(true), mark(false)
+	if s := lines.Written("x", &yes, &n, &no); s != "x yes 7 no" {
+		t.Errorf("%q", s)
+	}
+	if !lines.Read([]string{"no", "8", "yes"}, 1, &yes, &n, &no) || bool(yes) || n != 8 || !bool(no) {
+		t.Errorf("%v, %d, %v", yes, n, no)
+	}
+	for _, words := range [][]string{{"maybe", "8"}, {"", "8"}, {"yes", "x"}, {"8", "yes"}} {
+		if lines.Read(words, 1, &yes, &n) {
+			t.Errorf("%q fits a mark and a number", words)
+		}
+	}
+}

@@ -28,10 +28,17 @@ func First(list ...api.Errno) api.Errno {
 
 // Each returns the error of the first element of a list that has one.
 func Each[T any](list []T, errorOf func(T) api.Errno) api.Errno {
-	for _, x := range list {
-		if e := errorOf(x); e != api.OK {
-			return e
+	_, e := Numbered(list, func(_ int, x T) api.Errno { return errorOf(x) })
+	return e
+}
+
+// Numbered returns the number of the first element of a list that has an error, and this error. An error may depend on the
+// number, too.
+func Numbered[T any](list []T, errorOf func(number int, x T) api.Errno) (int, api.Errno) {
+	for number, x := range list {
+		if e := errorOf(number, x); e != api.OK {
+			return number, e
 		}
 	}
-	return api.OK
+	return 0, api.OK
 }

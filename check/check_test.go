@@ -44,3 +44,28 @@ func TestFirst(t *testing.T) {
 		}
 	}
 }
+
+// R1: the first element with an error decides; its number is told, and 0 where there is none.
+func TestNumbered(t *testing.T) {
+	tests := []struct {
+		list   []api.Errno
+		number int
+		want   api.Errno
+	}{
+		{nil, 0, api.OK},
+		{[]api.Errno{api.OK, api.OK}, 0, api.OK},
+		{[]api.Errno{api.OK, api.OK, api.ErrSum, api.ErrNil}, 2, api.ErrSum},
+		{[]api.Errno{api.ErrZero, api.ErrSum}, 0, api.ErrZero},
+	}
+	for _, test := range tests {
+		n, e := check.Numbered(test.list, func(number int, e api.Errno) api.Errno {
+			if e != test.list[number] {
+				t.Errorf("Numbered(%v): the element %d is %d", test.list, number, e)
+			}
+			return e
+		})
+		if n != test.number || e != test.want {
+			t.Errorf("Numbered(%v): %d, error %d, want %d, error %d", test.list, n, e, test.number, test.want)
+		}
+	}
+}

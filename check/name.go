@@ -15,12 +15,11 @@ func Name(s string) api.Errno {
 	})
 }
 
-// Named returns the error of the first element that has one: that of its name, ErrExists if an earlier element has this
-// name, or one of its own.
-func Named[T any](list []T, nameOf func(T) string, errorOf func(T) api.Errno) api.Errno {
+// Names returns a function that tells the errors of names, one by one: that of a name, or ErrExists if it was told of this
+// name before.
+func Names() func(name string) api.Errno {
 	names := map[string]bool{}
-	return Each(list, func(x T) api.Errno {
-		name := nameOf(x)
+	return func(name string) api.Errno {
 		if e := Name(name); e != api.OK {
 			return e
 		}
@@ -28,7 +27,16 @@ func Named[T any](list []T, nameOf func(T) string, errorOf func(T) api.Errno) ap
 			return api.ErrExists
 		}
 		names[name] = true
-		return errorOf(x)
+		return api.OK
+	}
+}
+
+// Named returns the error of the first element that has one: that of its name, ErrExists if an earlier element has this
+// name, or one of its own.
+func Named[T any](list []T, nameOf func(T) string, errorOf func(T) api.Errno) api.Errno {
+	nameError := Names()
+	return Each(list, func(x T) api.Errno {
+		return First(nameError(nameOf(x)), errorOf(x))
 	})
 }
 

@@ -49,3 +49,18 @@ func TestNamed(t *testing.T) {
 		}
 	}
 }
+
+// R1: a name's own error comes first, then that of an earlier one; names of other lists are none.
+func TestNames(t *testing.T) {
+	for range 2 {
+		nameError := check.Names()
+		for _, test := range []struct {
+			name string
+			want api.Errno
+		}{{"a", api.OK}, {"b", api.OK}, {"", api.ErrName}, {"a", api.ErrExists}, {"A", api.OK}, {"b", api.ErrExists}, {"", api.ErrName}} {
+			if e := nameError(test.name); e != test.want {
+				t.Errorf("%q: error %d, want %d", test.name, e, test.want)
+			}
+		}
+	}
+}
